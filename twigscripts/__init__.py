@@ -1,0 +1,1 @@
+"""Twigscripts: scripts of deeds on trees, decided for all trees."""

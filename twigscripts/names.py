@@ -1,0 +1,17 @@
+"""Names of nodes."""
+
+_LONGEST = 8
+
+
+def is_name(value):
+    """Whether value is a name: 1 to 8 letters a to z."""
+    if not isinstance(value, str) or len(value) > _LONGEST:
+        return False
+    return value.isascii() and value.isalpha() and value.islower()
+
+
+def are_unlike_names(value):
+    """Whether value is a tuple of names, none of them twice."""
+    if not isinstance(value, tuple) or not all([is_name(item) for item in value]):
+        return False
+    return len(set(value)) == len(value)
