@@ -13,7 +13,24 @@ FUNCTIONS = {
         "is_ahead": ("wood", "a", "b"), "skeleton_of": ("wood", "names"), "gaps_of": ("wood", "names"),
         "filled": ("wood", "value"),
     },
+    "twigscripts.deeds": {
+        "deed_error": ("value",), "script_error": ("value",), "old_names": ("script",), "new_names": ("script",),
+        "do_deed": ("wood", "deed"), "do_script": ("wood", "script"),
+    },
+    "twigscripts.tables": {
+        "skeletons": ("names",), "effect": ("script", "names"), "by_table": ("table", "wood"),
+    },
+    "twigscripts.pairs": {
+        "alike": ("one", "other"), "within": ("one", "other"), "commutes": ("one", "other"), "loses": ("script",),
+        "stops_on": ("script",), "fate": ("script",),
+    },
+    "twigscripts.wishes": {
+        "wish_error": ("value",), "is_so": ("wish", "wood"), "sure": ("ahead", "script", "behind"),
+        "keeps": ("script", "wish"), "where": ("script", "wish"),
+    },
 }
+# Arguments that are passed by name, with the value that they have if they are not passed.
+NAMED = {"effect": {"names": ()}}
 ERRORS = {"TwigError": (), **LISTED}
 
 
@@ -25,7 +42,10 @@ class Interface(unittest.TestCase):
                 found = getattr(importlib.import_module(file), name)
                 self.assertTrue(inspect.isfunction(found), name)
                 self.assertEqual(found.__module__, file, name)
-                self.assertEqual(tuple(inspect.signature(found).parameters), arguments, name)
+                parameters = inspect.signature(found).parameters
+                self.assertEqual(tuple(parameters), arguments, name)
+                named = {key: told.default for key, told in parameters.items() if told.kind == told.KEYWORD_ONLY}
+                self.assertEqual(named, NAMED.get(name, {}), name)
 
     def test_error_classes_stand_in_their_file(self):
         file = importlib.import_module("twigscripts.errors")

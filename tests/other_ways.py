@@ -1,0 +1,155 @@
+"""Second ways to do what the program does, written for the tests alone.
+
+Deeds are done on lists of children here, never on rows.
+"""
+
+from tests.samples import paths
+
+MOVES = ("first", "last", "ahead", "behind")
+TWO_OLD = MOVES + ("swap", "turn", "pour")
+ONE_OLD = ("front", "back", "lift", "cut")
+MAKERS = ("wrap", "put")
+WORDS = TWO_OLD + ONE_OLD + MAKERS
+
+
+def all_deeds(names):
+    """Each deed with these names."""
+    found = [(word, a) for word in ONE_OLD for a in names]
+    return found + [(word, a, b) for word in TWO_OLD + MAKERS for a in names for b in names]
+
+
+def plain_old_new(deed):
+    """The names of a deed that have to be there, and those that must not."""
+    if deed[0] == "wrap":
+        return deed[1:2], deed[2:]
+    if deed[0] == "put":
+        return deed[2:], deed[1:2]
+    return deed[1:], ()
+
+
+class Lists:
+    """A wood as lists of the names of children, that of the roots under None."""
+
+    def __init__(self, wood):
+        self.below = {None: []}
+        self.above = {}
+        todo = [(None, wood)]
+        while todo:
+            parent, trees = todo.pop()
+            self.below[parent] = [name for name, _ in trees]
+            for name, inside in trees:
+                self.above[name] = parent
+                todo.append((name, inside))
+
+    def is_around(self, a, b):
+        """Whether b is a or lies in a."""
+        while b is not None and b != a:
+            b = self.above[b]
+        return b == a
+
+    def place(self, name):
+        """The list a node stands in, and its index there."""
+        siblings = self.below[self.above[name]]
+        return siblings, siblings.index(name)
+
+    def wood(self, parent=None):
+        return tuple((name, self.wood(name)) for name in self.below[parent])
+
+
+def plain_stop(lists, deed):
+    old, new = plain_old_new(deed)
+    if [name for name in old if name not in lists.above]:
+        return "gone"
+    if [name for name in new if name in lists.above]:
+        return "taken"
+    if deed[0] in MOVES + ("pour",) and lists.is_around(deed[1], deed[2]):
+        return "inside"
+    if deed[0] == "swap" and (lists.is_around(deed[1], deed[2]) or lists.is_around(deed[2], deed[1])):
+        return "inside"
+    return None
+
+
+def move(lists, deed):
+    siblings, index = lists.place(deed[1])
+    del siblings[index]
+    if deed[0] in ("front", "back"):
+        goal, at = lists.below[None], {"front": 0, "back": len(lists.below[None])}[deed[0]]
+    elif deed[0] in ("first", "last"):
+        goal = lists.below[deed[2]]
+        at = {"first": 0, "last": len(goal)}[deed[0]]
+    else:
+        goal, at = lists.place(deed[2])
+        at += {"ahead": 0, "behind": 1}[deed[0]]
+    goal.insert(at, deed[1])
+
+
+def change(lists, deed):
+    if deed[0] == "put":
+        lists.below[deed[2]].append(deed[1])
+        lists.below[deed[1]] = []
+        return
+    siblings, index = lists.place(deed[1])
+    if deed[0] == "swap":
+        others, at = lists.place(deed[2])
+        siblings[index], others[at] = deed[2], deed[1]
+    elif deed[0] == "lift":
+        siblings[index:index + 1] = lists.below[deed[1]]
+    elif deed[0] == "cut":
+        del siblings[index]
+    elif deed[0] == "pour":
+        lists.below[deed[2]].extend(lists.below[deed[1]])
+        lists.below[deed[1]] = []
+    else:
+        siblings[index] = deed[2]
+        lists.below[deed[2]] = [deed[1]]
+
+
+def renamed(wood, names):
+    return tuple((names.get(name, name), renamed(inside, names)) for name, inside in wood)
+
+
+def plain_deed(wood, deed):
+    """The wood behind a deed, or the word of its stop."""
+    lists = Lists(wood)
+    word = plain_stop(lists, deed)
+    if word is not None:
+        return word
+    if deed[0] == "turn":
+        return renamed(wood, {deed[1]: deed[2], deed[2]: deed[1]})
+    (move if deed[0] in MOVES + ("front", "back") else change)(lists, deed)
+    return lists.wood()
+
+
+def plain_script(wood, script):
+    """The wood behind a script, or the pair (index, word) of its stop."""
+    for index, deed in enumerate(script):
+        found = plain_deed(wood, deed)
+        if isinstance(found, str):
+            return (index, found)
+        wood = found
+    return wood
+
+
+def stopped(result):
+    """Whether what plain_script tells is a stop."""
+    return len(result) == 2 and isinstance(result[0], int)
+
+
+def plain_so(wish, wood):
+    """Whether a wish is so, told by the places of the nodes."""
+    found = paths(wood)
+    if wish[0] == "and":
+        return plain_so(wish[1], wood) and plain_so(wish[2], wood)
+    if wish[0] == "or":
+        return plain_so(wish[1], wood) or plain_so(wish[2], wood)
+    if wish[0] == "not":
+        return not plain_so(wish[1], wood)
+    if [name for name in wish[1:] if name not in found]:
+        return False
+    places = [found[name] for name in wish[1:]]
+    if wish[0] == "here":
+        return True
+    a, b = places
+    if wish[0] == "in":
+        return len(a) > len(b) and a[:len(b)] == b
+    return a < b and b[:len(a)] != a
