@@ -194,7 +194,8 @@ class ByTable(Case):
                 self.same(script, ("b", "c", "a"), wood)
 
     def test_great_woods(self):
-        for wood in (deep(149, (("a", ()), ("b", ()))), (("a", deep(147)), ("b", ())), wide(397) + (("b", ()), ("a", ())),
+        two = (("b", ()), ("a", ()))
+        for wood in (deep(149, two), (("a", deep(147)), ("b", ())), wide(397) + two,
                      deep(60, (("a", ()),)) + (("b", (("c", ()),)),)):
             self.same((("last", "a", "b"), ("wrap", "a", "n")), (), wood)
             self.same((("last", "a", "b"), ("last", "b", "a")), (), wood)

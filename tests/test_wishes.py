@@ -3,7 +3,9 @@
 from itertools import product
 
 from tests.other_ways import plain_script, plain_so, stopped
-from tests.samples import BUSY, ODD, V, W, Case, all_woods, deep, few_woods, name_at, nested_list, paths, plain_row, wide
+from tests.samples import (
+    BUSY, ODD, V, W, Case, all_woods, deep, few_woods, name_at, nested_list, paths, plain_row, wide,
+)
 from twigscripts.bounds import MAX_OLD
 from twigscripts.deeds import new_names, old_names
 from twigscripts.errors import BadScript, BadWish, TooMany
@@ -11,6 +13,7 @@ from twigscripts.wishes import is_so, keeps, sure, where
 from twigscripts.woods import wood_error
 
 HERE = ("here", "a")
+TWO = ("or", HERE, HERE)
 LEAVES = [("in", "a", "b"), ("in", "b", "a"), ("ahead", "a", "b"), ("here", "a"), ("here", "n"), ("in", "n", "a")]
 WISHES = LEAVES + [("not", leaf) for leaf in LEAVES[:4]] + [
     ("and", LEAVES[0], ("here", "n")), ("or", LEAVES[0], LEAVES[2]), ("and", ("not", LEAVES[0]), ("not", LEAVES[1])),
@@ -91,8 +94,7 @@ class IsSo(Case):
         rows = ((None, ((), "wish")), (("here", "A"), ((), "name")), (("not", ("here",)), ((0,), "wish")),
                 (["here", "a"], ((), "wish")), (("and", HERE, ("in", "a", 1)), ((1,), "name")),
                 (("not", ("not", ("not", ("not", ("not", HERE))))), ((), "deep")),
-                (("and", ("and", ("or", HERE, HERE), ("or", HERE, HERE)), ("or", ("or", HERE, HERE), ("or", HERE, HERE))),
-                 ((), "many")))
+                (("and", ("and", TWO, TWO), ("or", TWO, TWO)), ((), "many")))
         for value, error in rows:
             self.assertEqual(self.refused(BadWish, is_so, value, W).error, error)
         for value in ODD + (nested_list(100),):
@@ -155,8 +157,9 @@ class Sure(Case):
     def test_four_names(self):
         script = (("last", "a", "b"), ("last", "c", "d"))
         self.assertIs(sure(("in", "b", "d"), script, ("in", "a", "d")), None)
-        self.right(sure, ("ahead", "b", "d"), script, ("ahead", "a", "d"), ("ahead", "b", "d"), script, ("ahead", "a", "d"))
-        self.right(keeps, ("ahead", "b", "d"), script, ("ahead", "b", "d"), script, ("ahead", "b", "d"))
+        one, other = ("ahead", "b", "d"), ("ahead", "a", "d")
+        self.right(sure, one, script, other, one, script, other)
+        self.right(keeps, one, script, one, script, one)
         found = sure(HERE, script, ("ahead", "a", "d"))
         self.assertTrue(breaks(HERE, script, ("ahead", "a", "d"), found))
 
