@@ -79,6 +79,13 @@ class Loses(Case):
                        (("front", "a"), ("cut", "a"), ("front", "a")), ALWAYS, (("put", "n", "n"),)):
             self.assertIs(loses(script), None, script)
 
+    def test_moves_that_are_taken_back_lose_nothing(self):
+        for deed in MOVES_BOTH:
+            back = (("wrap", "a", "n"), deed, ("first", "a", "n"))
+            self.assertIs(self.right(back, 1), None, deed)
+            self.assertIs(self.right(back + (("lift", "n"),), 1), None, deed)
+            self.assertIsNot(self.right((deed, ("wrap", "a", "n"), ("lift", "n"))), None, deed)
+
     def test_what_is_cut_is_lost(self):
         one, other = self.right((("cut", "a"),))
         self.assertEqual((one, len(paths(other))), ((("a", ()),), 2))
