@@ -3,7 +3,8 @@
 Deeds are done on lists of children here, never on rows.
 """
 
-from tests.samples import paths
+from tests.samples import all_woods, paths
+from twigscripts.woods import filled
 
 MOVES = ("first", "last", "ahead", "behind")
 TWO_OLD = MOVES + ("swap", "turn", "pour")
@@ -153,3 +154,56 @@ def plain_so(wish, wood):
     if wish[0] == "in":
         return len(a) > len(b) and a[:len(b)] == b
     return a < b and b[:len(a)] != a
+
+
+def plain_said(saying, wood):
+    """Whether a saying is so, told by lists of children."""
+    lists = Lists(wood)
+    if [name for name in saying[1:] if name not in lists.above]:
+        return False
+    word, a = saying[:2]
+    siblings, index = lists.place(a)
+    if word == "child":
+        return lists.above[a] == saying[2]
+    if word == "next":
+        return siblings[index + 1:index + 2] == [saying[2]]
+    told = {"root": lists.above[a] is None, "first": index == 0, "last": index == len(siblings) - 1}
+    return told[word] if word != "bare" else not lists.below[a]
+
+
+def fitting_woods(script, extra, names=()):
+    """All woods that fit a script, with its old names and those passed that it does not make, and so many others."""
+    told = {name for deed in script for name in deed[1:]}
+    new = set(plain_new_names(script))
+    others = [name for name in ("x", "y", "z", "xx", "yy") if name not in told | set(names)]
+    return all_woods(sorted((told | set(names)) - new) + others[:extra])
+
+
+def full_woods(script):
+    """Each wood of the old names of a script alone, with a leaf in each gap: they show whatever goes elsewhere."""
+    woods = []
+    for wood in fitting_woods(script, 0):
+        gaps = range(2 * len(paths(wood)) + 1)
+        leaves = [(f"+leaf{letter}", f"-leaf{letter}") for letter in "abcdefghi"]
+        woods.append(filled(wood, tuple(leaves[gap] for gap in gaps)))
+    return woods
+
+
+def plain_new_names(script):
+    """The names that stand in a script for the first time where a deed makes a node."""
+    seen, new = set(), []
+    for deed in script:
+        for place, name in enumerate(deed[1:]):
+            if name not in seen and (deed[0], place) in (("wrap", 1), ("put", 0)):
+                new.append(name)
+            seen.add(name)
+    return new
+
+
+def plain_alike(one, other, woods):
+    """Whether two rows of deeds do alike on each of these woods."""
+    for wood in woods:
+        first, second = plain_script(wood, one), plain_script(wood, other)
+        if first != second and not (stopped(first) and stopped(second)):
+            return False
+    return True

@@ -106,10 +106,10 @@ def few_woods():
 class Case(unittest.TestCase):
     """A test that asks for errors with their fields."""
 
-    def refused(self, error_class, call, *args):
+    def refused(self, error_class, call, *args, **named):
         """The error that the call raises, which is of just this class."""
         try:
-            value = call(*args)
+            value = call(*args, **named)
         except (ValueError, LookupError) as error:
             self.assertIs(type(error), error_class, (call.__name__, args))
             return error

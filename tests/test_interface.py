@@ -28,9 +28,15 @@ FUNCTIONS = {
         "wish_error": ("value",), "is_so": ("wish", "wood"), "sure": ("ahead", "script", "behind"),
         "keeps": ("script", "wish"), "where": ("script", "wish"),
     },
+    "twigscripts.sayings": {"holds": ("saying", "wood"), "told": ("script", "saying")},
+    "twigscripts.short": {"lean": ("script",), "shortest": ("script",), "plan": ("ahead", "behind", "names")},
+    "twigscripts.moves": {
+        "least_moves": ("one", "other"), "fewest": ("one", "other"), "labels": ("one", "other"),
+        "lets_labels": ("one", "other", "value"), "lets_fewest": ("one", "other", "moves", "value"),
+    },
 }
 # Arguments that are passed by name, with the value that they have if they are not passed.
-NAMED = {"effect": {"names": ()}}
+NAMED = {"effect": {"names": ()}, "plan": {"names": ()}}
 ERRORS = {"TwigError": (), **LISTED}
 
 

@@ -3,7 +3,7 @@
 import unittest
 
 from tests.samples import ODD
-from twigscripts.names import are_unlike_names, is_name
+from twigscripts.names import are_unlike_names, free_names, is_name
 
 
 class Names(unittest.TestCase):
@@ -36,3 +36,12 @@ class Names(unittest.TestCase):
             self.assertIs(are_unlike_names(value), False, value)
         for value in ODD:
             self.assertIs(are_unlike_names(("a", value)), False, value)
+
+    def test_free_names(self):
+        self.assertEqual(len(set(free_names(()))), 26)
+        for taken in ((), ("x",), ("x", "y", "z", "a", "xy"), tuple("abcdefghij"), ["x", "abc"]):
+            found = free_names(taken)
+            self.assertTrue(found)
+            for name in found:
+                self.assertIs(is_name(name), True)
+                self.assertNotIn(name, taken)

@@ -2,6 +2,9 @@
 
 _LONGEST = 8
 
+# Two scripts together tell at most ten names, so there is always one left.
+_LETTERS = "xyzuvwabcdefghijklmnopqrst"
+
 
 def is_name(value):
     """Whether value is a name: 1 to 8 letters a to z."""
@@ -15,3 +18,8 @@ def are_unlike_names(value):
     if not isinstance(value, tuple) or not all([is_name(item) for item in value]):
         return False
     return len(set(value)) == len(value)
+
+
+def free_names(taken):
+    """Names of one letter that are none of those taken."""
+    return [name for name in _LETTERS if name not in taken]

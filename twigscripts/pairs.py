@@ -8,11 +8,9 @@ its ends does.
 
 from twigscripts.deeds import new_names, old_names
 from twigscripts.errors import Clash
+from twigscripts.names import free_names
 from twigscripts.tables import all_old_names, table_of
 from twigscripts.woods import filled, unchecked_wood
-
-# At most ten names are told by two scripts, so there is always one left for a leaf.
-_LEAVES = "xyzuvwabcdefghijklmnopqrst"
 
 
 def alike(one, other):
@@ -102,8 +100,7 @@ def _least_wood(parted, others):
 
 def _with_leaves(row, gaps, others):
     """The wood of a row with a leaf in each of these gaps; no leaf has one of the other names."""
-    taken = [end[1:] for end in row] + list(others)
-    leaves = [name for name in _LEAVES if name not in taken]
+    leaves = free_names([end[1:] for end in row] + list(others))
     parts = [()] * (len(row) + 1)
     for gap, name in zip(gaps, leaves):
         parts[gap] = (f"+{name}", f"-{name}")

@@ -19,11 +19,11 @@ def skeleton_rows(names):
     """The rows of all woods with just these names, ascending."""
     rows = [()]
     for name in names:
-        rows = [more for row in rows for more in _rows_with(row, name)]
+        rows = [more for row in rows for more in rows_with(row, name)]
     return sorted(rows)
 
 
-def _rows_with(row, name):
+def rows_with(row, name):
     """All rows that are this one without this node."""
     found = []
     for begin in range(len(row) + 1):
@@ -64,10 +64,10 @@ def all_old_names(*parts):
 
 def table_of(deeds, names):
     """The table of any deeds over the skeletons for any few names."""
-    return tuple([(row, result_of(_with_gaps(row), deeds)) for row in skeleton_rows(names)])
+    return tuple([(row, result_of(gapped_row(row), deeds)) for row in skeleton_rows(names)])
 
 
-def _with_gaps(row):
+def gapped_row(row):
     """A row with the numbers of its gaps between its ends."""
     items = [0]
     for place, end in enumerate(row):

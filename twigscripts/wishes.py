@@ -67,10 +67,10 @@ def names_in_wish(wish):
 def is_so(wish, wood):
     """Whether a wish is so of a wood."""
     check_wish(wish)
-    return _is_so_of_row(wish, row_of(wood))
+    return is_so_of_row(wish, row_of(wood))
 
 
-def _is_so_of_row(wish, row):
+def is_so_of_row(wish, row):
     """Whether a wish is so of the wood of a row, in which numbers of gaps may stand."""
     return _holds(wish, {item: place for place, item in enumerate(row)})
 
@@ -107,7 +107,7 @@ def keeps(script, wish):
 
 def _breach(ahead, script, behind):
     for row, result in _table_for(script, names_in_wish(ahead) + names_in_wish(behind)):
-        if result[0] == "does" and _is_so_of_row(ahead, row) and not _is_so_of_row(behind, result[1]):
+        if result[0] == "does" and is_so_of_row(ahead, row) and not is_so_of_row(behind, result[1]):
             return unchecked_wood(row)
     return None
 
@@ -123,4 +123,4 @@ def where(script, wish):
     check_script(script)
     check_wish(wish)
     table = _table_for(script, names_in_wish(wish))
-    return tuple([row for row, result in table if result[0] == "does" and _is_so_of_row(wish, result[1])])
+    return tuple([row for row, result in table if result[0] == "does" and is_so_of_row(wish, result[1])])
