@@ -207,3 +207,10 @@ def plain_alike(one, other, woods):
         if first != second and not (stopped(first) and stopped(second)):
             return False
     return True
+
+
+def wish_names(wish):
+    """The names of a wish, those of the wishes in it too."""
+    if wish[0] in ("and", "or", "not"):
+        return set().union(*[wish_names(part) for part in wish[1:]])
+    return set(wish[1:])

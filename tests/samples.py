@@ -111,9 +111,9 @@ class Case(unittest.TestCase):
         try:
             value = call(*args, **named)
         except (ValueError, LookupError) as error:
-            self.assertIs(type(error), error_class, (call.__name__, args))
+            self.assertIs(type(error), error_class, (call, args))
             return error
-        return self.fail(f"{call.__name__}{args!r} returned {value!r}")
+        return self.fail(f"{call!r} of {args!r} returned {value!r}")
 
     def refused_name(self, name, call, *args):
         """The call raises NoName with this very object."""

@@ -3,7 +3,9 @@
 import unittest
 from itertools import combinations
 
-from tests.samples import BUSY, ODD, W, Case, deep, deep_row, few_woods, names_up_to, nested_list, paths, plain_row, wide
+from tests.samples import (
+    BUSY, ODD, W, Case, deep, deep_row, few_woods, names_up_to, nested_list, paths, plain_row, wide,
+)
 from twigscripts.errors import BadGaps
 from twigscripts.woods import filled, gaps_of, skeleton_of
 
@@ -85,7 +87,8 @@ class Refused(Case):
         self.refused(BadGaps, filled, wood, value)
 
     def test_what_is_no_tuple(self):
-        for value in (None, True, False, 0, 1, "", "abcde", [], [()] * 5, {}, dict.fromkeys(range(5)), nested_list(100)):
+        for value in (None, True, False, 0, 1, "", "abcde", [], [()] * 5, {}, dict.fromkeys(range(5)),
+                      nested_list(100)):
             self.refuse(C_D, value)
         for value in ([()], [[]], "+", {"+": ()}):
             self.refuse((), value)

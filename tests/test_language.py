@@ -88,3 +88,20 @@ class Language(unittest.TestCase):
                 if isinstance(node, ast.Constant):
                     self.assertNotIsInstance(node.value, (float, complex), file)
                     self.assertFalse(isinstance(node.value, str) and "%" in node.value, file)
+
+    def test_what_operators_forbid_in_the_whole_package(self):
+        # Operators and properties may change nothing that they did not create: without these it is plain.
+        for file, text, tree in parsed():
+            for word in ("(type)", "Meta", "metaclass=", ".sort(", "isinstance(type"):
+                self.assertNotIn(word, text, file)
+            for node in ast.walk(tree):
+                self.assertNotIsInstance(node, (ast.AugAssign, ast.GeneratorExp, ast.Yield, ast.YieldFrom), file)
+                self.assertFalse(isinstance(node, ast.Attribute) and node.attr in ("keys", "sort", "__class__"), file)
+
+    def test_finally_only_assigns_and_asks_for_none(self):
+        for file, _, tree in parsed():
+            for node in [node for node in ast.walk(tree) if isinstance(node, ast.Try)]:
+                for inner in [inner for part in node.finalbody for inner in ast.walk(part)]:
+                    self.assertNotIsInstance(inner, (ast.Call, ast.BinOp, ast.Return, ast.Raise, ast.Subscript), file)
+                    if isinstance(inner, ast.Compare):
+                        self.assertIsInstance(inner.ops[0], (ast.Is, ast.IsNot), file)

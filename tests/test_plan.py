@@ -2,7 +2,7 @@
 
 from itertools import permutations, product
 
-from tests.other_ways import all_deeds, plain_new_names, plain_script, plain_so, stopped
+from tests.other_ways import all_deeds, plain_new_names, plain_script, plain_so, stopped, wish_names
 from tests.samples import ODD, Case, all_woods, nested_list
 from twigscripts.bounds import MAX_FEW, MAX_SHORT
 from twigscripts.deeds import script_error
@@ -19,12 +19,6 @@ WISHES = LEAVES + [("not", leaf) for leaf in LEAVES] + [
 # a lies in b, b in c; and a is ahead of b, b of c.
 CHAIN = ("and", ("in", "a", "b"), ("in", "b", "c"))
 ROW = ("and", ("ahead", "a", "b"), ("ahead", "b", "c"))
-
-
-def wish_names(wish):
-    if wish[0] in ("and", "or", "not"):
-        return set().union(*[wish_names(part) for part in wish[1:]])
-    return set(wish[1:])
 
 
 class Plan(Case):

@@ -1,6 +1,5 @@
 """[7]: skeletons, effect and by_table."""
 
-import unittest
 from itertools import permutations
 
 from tests.other_ways import all_deeds, plain_script, stopped

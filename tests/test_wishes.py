@@ -2,7 +2,7 @@
 
 from itertools import product
 
-from tests.other_ways import plain_script, plain_so, stopped
+from tests.other_ways import plain_script, plain_so, stopped, wish_names
 from tests.samples import (
     BUSY, ODD, V, W, Case, all_woods, deep, few_woods, name_at, nested_list, paths, plain_row, wide,
 )
@@ -24,13 +24,6 @@ SCRIPTS = [
     (("put", "n", "a"),), (("wrap", "a", "n"), ("last", "n", "b")), (("lift", "a"), ("wrap", "b", "a")),
     (("pour", "a", "b"), ("behind", "a", "b")), (("cut", "a"), ("cut", "a")), (("cut", "n"), ("front", "b")),
 ]
-
-
-def wish_names(wish):
-    """The names of a wish, those of the wishes in it too."""
-    if wish[0] in ("and", "or", "not"):
-        return set().union(*[wish_names(part) for part in wish[1:]])
-    return set(wish[1:])
 
 
 def all_old(script, *wishes):

@@ -8,7 +8,7 @@ from twigscripts.tables import all_old_names, table_of
 from twigscripts.woods import row_of, unchecked_wood
 
 # What each item behind the word is: n a name, w a wish.
-_FORMS = {"in": "nn", "ahead": "nn", "here": "n", "and": "ww", "or": "ww", "not": "w"}
+WISH_FORMS = {"in": "nn", "ahead": "nn", "here": "n", "and": "ww", "or": "ww", "not": "w"}
 
 
 def wish_error(value):
@@ -34,19 +34,19 @@ def _own_error(value):
     if not isinstance(value, tuple) or not value:
         return "wish"
     # Only strings are looked up: a list or a dict cannot be a key.
-    if not isinstance(value[0], str) or value[0] not in _FORMS:
+    if not isinstance(value[0], str) or value[0] not in WISH_FORMS:
         return "wish"
-    if len(value) != 1 + len(_FORMS[value[0]]):
+    if len(value) != 1 + len(WISH_FORMS[value[0]]):
         return "wish"
     return None if all([is_name(name) for name in _own_names(value)]) else "name"
 
 
 def _inner_wishes(wish):
-    return wish[1:] if "w" in _FORMS[wish[0]] else ()
+    return wish[1:] if "w" in WISH_FORMS[wish[0]] else ()
 
 
 def _own_names(wish):
-    return wish[1:] if "n" in _FORMS[wish[0]] else ()
+    return wish[1:] if "n" in WISH_FORMS[wish[0]] else ()
 
 
 def check_wish(value):

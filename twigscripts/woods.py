@@ -5,7 +5,7 @@ calls should be.
 """
 
 from twigscripts.bounds import MAX_DEEP, MAX_NAMES
-from twigscripts.errors import BadGaps, BadNames, BadRow, NoName
+from twigscripts.errors import BadGaps, BadNames, BadRow, BadWood, NoName
 from twigscripts.names import are_unlike_names, is_name
 
 # So many nodes may be open at once in a row.
@@ -43,6 +43,13 @@ def _tree_error(tree, seen):
     if name in seen:
         return "again"
     return None if isinstance(inside, tuple) else "wood"
+
+
+def check_wood(value):
+    """Raises BadWood for what is no wood within the limits."""
+    error = wood_error(value)
+    if error is not None:
+        raise BadWood(error)
 
 
 def row_of(wood):
