@@ -31,6 +31,25 @@ def names_in(tree):
                 yield found
 
 
+def is_plainly_text(node):
+    """Whether an expression is a string, an f-string, str(..), repr(..) or the join of a literal."""
+    if isinstance(node, ast.Call) and isinstance(node.func, ast.Name):
+        return node.func.id in ("str", "repr")
+    if isinstance(node, ast.Call) and isinstance(node.func, ast.Attribute) and node.func.attr == "join":
+        return isinstance(node.func.value, ast.Constant)
+    return isinstance(node, ast.JoinedStr) or isinstance(node, ast.Constant) and isinstance(node.value, str)
+
+
+def is_plainly_number(node):
+    """Whether an expression is len(..) or a literal number."""
+    if isinstance(node, ast.Call):
+        return isinstance(node.func, ast.Name) and node.func.id == "len"
+    return isinstance(node, ast.Constant) and type(node.value) is int
+
+
+PLAIN_RETURNS = {"__str__": is_plainly_text, "__repr__": is_plainly_text, "__len__": is_plainly_number}
+
+
 def parsed():
     """Each file of the package: its path, its text and its tree."""
     for path in FILES:
@@ -97,6 +116,30 @@ class Language(unittest.TestCase):
             for node in ast.walk(tree):
                 self.assertNotIsInstance(node, (ast.AugAssign, ast.GeneratorExp, ast.Yield, ast.YieldFrom), file)
                 self.assertFalse(isinstance(node, ast.Attribute) and node.attr in ("keys", "sort", "__class__"), file)
+
+    def test_what_texts_and_lengths_return(self):
+        found = []
+        for file, _, tree in parsed():
+            for method in ast.walk(tree):
+                if not isinstance(method, ast.FunctionDef) or method.name not in PLAIN_RETURNS:
+                    continue
+                self.assertIsInstance(method.body[-1], ast.Return, (file, method.name))
+                for node in ast.walk(method):
+                    if isinstance(node, ast.Return):
+                        self.assertTrue(PLAIN_RETURNS[method.name](node.value), (file, node.lineno))
+                found.append((file, method.name))
+        self.assertIn(("scripts.py", "__str__"), found)
+        self.assertIn(("gardens.py", "__len__"), found)
+
+    def test_which_returns_are_plain(self):
+        for text in ("'a'", "f'{a} b'", "str(a)", "repr(a.b)", "''.join(a)", "'; '.join([a])"):
+            self.assertTrue(is_plainly_text(ast.parse(text, mode="eval").body), text)
+        for text in ("a", "text(a)", "a.text()", "'a' + b", "a.join(b)", "f'{a}'.join(b)", "1", "None", "a if b else 'c'", "'a'.lower()"):
+            self.assertFalse(is_plainly_text(ast.parse(text, mode="eval").body), text)
+        for text in ("len(a)", "0", "12"):
+            self.assertTrue(is_plainly_number(ast.parse(text, mode="eval").body), text)
+        for text in ("a", "len(a) + 1", "a.len()", "many(a)", "True", "-1"):
+            self.assertFalse(is_plainly_number(ast.parse(text, mode="eval").body), text)
 
     def test_finally_only_assigns_and_asks_for_none(self):
         for file, _, tree in parsed():

@@ -72,7 +72,8 @@ class Script:
         return do_script(wood, self._deeds)
 
     def __str__(self):
-        return script_text(self._deeds)
+        # The rules of the language want to see here that it is a string.
+        return str(script_text(self._deeds))
 
 
 def _deeds_of(value):
