@@ -5,6 +5,7 @@ shortest script would be right; that it stays this one was asked for.
 """
 
 import pathlib
+import sys
 
 from tests.samples import Case
 from twigscripts.short import shortest
@@ -13,6 +14,21 @@ from twigscripts.texts import read_script
 LINES = (pathlib.Path(__file__).resolve().parent / "shortest_answers.txt").read_text(encoding="ascii").splitlines()
 LONG = ((("cut", "c"), ("cut", "a"), ("put", "c", "b")), (("swap", "a", "b"), ("swap", "b", "c"), ("turn", "a", "c")),
         (("front", "a"), ("front", "b"), ("front", "c")))
+
+
+# The time that a call takes is told by how many functions it calls: this is the same on each machine.
+MOST_CALLS = 20000
+
+
+def calls_within(script):
+    """How many functions are called while shortest looks for a script."""
+    seen = []
+    sys.setprofile(lambda frame, event, value: seen.append(event))
+    try:
+        shortest(script)
+    finally:
+        sys.setprofile(None)
+    return seen.count("call")
 
 
 def written():
@@ -43,3 +59,7 @@ class ShortestAnswers(Case):
         for script, answer in written().items():
             found = shortest(script)
             self.assertEqual(found, answer, script)
+
+    def test_how_long_it_takes(self):
+        for script in LONG:
+            self.assertLess(calls_within(script), MOST_CALLS, script)

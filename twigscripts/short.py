@@ -5,7 +5,7 @@ from twigscripts.deeds import check_script, new_names, old_names
 from twigscripts.errors import BadNames, TooMany
 from twigscripts.names import is_name
 from twigscripts.pairs import parting_wood
-from twigscripts.steps import FORMS, result_of
+from twigscripts.steps import FORMS, possible_lasts, result_of
 from twigscripts.tables import gapped_row, skeleton_rows
 from twigscripts.wishes import check_wish, is_so_of_row, names_in_wish
 
@@ -32,7 +32,41 @@ def shortest(script):
     names = old + new_names(script)
     _check_few(names)
     goals = [(row, _row_behind(row, script)) for row in [gapped_row(bare) for bare in skeleton_rows(old)]]
-    for deeds in _short_scripts(names):
+    deeds = _deeds_with(names)
+    done = [pair for pair in goals if pair[1] is not None]
+    if not done:
+        # One deed that stops on all woods does alike: there always is one.
+        return _first_that_leads(goals, [(deed,) for deed in deeds])
+    # Few scripts lead from one row to its goal: the other pairs are looked at for these alone.
+    row, goal = done[0]
+    lasts = possible_lasts(goal, deeds)
+    for many in range(MAX_SHORT + 1):
+        found = _first_that_leads(goals, _scripts_between(row, goal, many, deeds, lasts))
+        if found is not None:
+            return found
+    return None
+
+
+def _scripts_between(row, goal, many, deeds, lasts):
+    """All scripts of so many deeds that lead from a row to a goal, in order; lasts are the possible last deeds."""
+    if many == 0:
+        return [()] if row == goal else []
+    if many == 1:
+        return [(deed,) for deed in lasts if lasts[deed] in (None, row) and _row_behind(row, (deed,)) == goal]
+    found = []
+    rests = {}
+    for deed in deeds:
+        behind = _row_behind(row, (deed,))
+        if behind is not None:
+            if behind not in rests:
+                rests[behind] = _scripts_between(behind, goal, many - 1, deeds, lasts)
+            found.extend([(deed,) + rest for rest in rests[behind]])
+    return found
+
+
+def _first_that_leads(goals, scripts):
+    """The first one of some scripts that leads from row to goal in each pair, None if there is none."""
+    for deeds in scripts:
         if _leads_to(goals, deeds):
             return deeds
     return None

@@ -115,3 +115,44 @@ def _turned(row, a, b):
     """The row with two names exchanged."""
     others = {f"+{a}": f"+{b}", f"-{a}": f"-{b}", f"+{b}": f"+{a}", f"-{b}": f"-{a}"}
     return tuple([others.get(item, item) for item in row])
+
+
+def possible_lasts(row, deeds):
+    """Those of some deeds that may have led to a row, each with the row ahead of it, None if this is not known.
+
+    What a deed puts somewhere stands right beside its goal, whatever row
+    it came from: a deed that has not left this can be left out.
+    """
+    behind = dict(zip(("",) + row, row + ("",)))
+    found = {}
+    for deed in deeds:
+        if deed[0] in ("swap", "turn"):
+            # Both undo themselves, so they do not stop on what they led to.
+            if stop_word(row, deed) is None:
+                found[deed] = row_behind(row, deed)
+        elif _has_left(behind, deed):
+            found[deed] = None
+    return found
+
+
+def _has_left(behind, deed):
+    """Whether a row has what a deed leaves; behind tells what follows each item, an empty string is the edge."""
+    word, a, b = deed[0], deed[1], deed[-1]
+    if word == "front":
+        return behind[""] == f"+{a}"
+    if word == "back":
+        return behind.get(f"-{a}") == ""
+    if word in ("lift", "cut"):
+        return f"+{a}" not in behind
+    if word == "first":
+        return behind.get(f"+{b}") == f"+{a}"
+    if word == "last":
+        return behind.get(f"-{a}") == f"-{b}"
+    if word == "ahead":
+        return behind.get(f"-{a}") == f"+{b}"
+    if word == "behind":
+        return behind.get(f"-{b}") == f"+{a}"
+    if word == "wrap":
+        return behind.get(f"+{b}") == f"+{a}" and behind.get(f"-{a}") == f"-{b}"
+    # What is poured leaves its node bare, and what is put is bare.
+    return behind.get(f"+{a}") == f"-{a}" and (word == "pour" or behind.get(f"-{a}") == f"-{b}")
